@@ -1,0 +1,1 @@
+"""Mapround: maps told by the turns of their roads."""
