@@ -61,6 +61,11 @@ def refuse_too_many(turns):
         raise TooMany()
 
 
+def in_good_order(turns):
+    """The turns of a map in good order, all of them new lists; nothing is refused."""
+    return sorted([turned(turn) for turn in turns])
+
+
 def map_of(turns):
     """The map that the turns tell, in good order; refused where they tell none."""
     told = told_ends(turns)
@@ -70,7 +75,7 @@ def map_of(turns):
     refuse_twice(told)
     refuse_lone(told)
     refuse_too_many(turns)
-    return sorted([turned(turn) for turn in turns])
+    return in_good_order(turns)
 
 
 def is_map(turns):
