@@ -1,5 +1,6 @@
 """The pieces of a map, and maps joined to one."""
 
+from mapround.errors import NotOnePiece
 from mapround.turns import map_of, places_at
 
 
@@ -29,6 +30,12 @@ def pieces(m):
                 known[place] = True
             found.append([list(m[place]) for place in places])
     return found
+
+
+def refuse_not_one_piece(m):
+    """Refuse a map of another number of pieces than one."""
+    if len(pieces(m)) != 1:
+        raise NotOnePiece()
 
 
 def joined(maps):

@@ -1,7 +1,8 @@
 """Maps and changes that the tests make, and a second reckoning to hold the program against.
 
 Nothing here asks the program for a map: a map is reckoned as a dict that gives
-for each end the end after it, and a number of places without roads.
+for each end the end after it, and a number of places without roads. What is told
+of a map is reckoned here as straight from the words of the points as can be.
 """
 
 import itertools
@@ -224,3 +225,266 @@ def lone_roads(first, last):
 def looped_roads(first, last):
     """A map of roads each of which leads from a place of its own to itself."""
     return sorted([-road, road] for road in range(first, last + 1))
+
+
+def handed_round(n):
+    """A map of one place with n handles and two roads for each."""
+    return map_by(following_in([[end for k in range(1, 2 * n, 2) for end in (k, k + 1, -k, -k - 1)]]), 0)
+
+
+def ring(n):
+    """A map of n places, each with a road to the next one, and one from the last to the first."""
+    return map_by(following_in([[k, -(k - 1) if k > 1 else -n] for k in range(1, n + 1)]), 0)
+
+
+def way(n):
+    """A map of n roads one behind another."""
+    return map_by(following_in([[1]] + [[-k, k + 1] for k in range(1, n)] + [[-n]]), 0)
+
+
+def star(n):
+    """A map of a place with n roads, each to a place of its own."""
+    return map_by(following_in([list(range(1, n + 1))] + [[-k] for k in range(1, n + 1)]), 0)
+
+
+def loops_at_one_place(n):
+    """A map of one place with n roads from it to itself, side by side."""
+    return map_by(following_in([[end for k in range(1, n + 1) for end in (k, -k)]]), 0)
+
+
+def prism(n):
+    """A map of two rings of n places, one within the other, with a road between each two of them."""
+    turns = []
+    for k in range(n):
+        inner, outer, between, behind = k + 1, n + k + 1, 2 * n + k + 1, (k - 1) % n + 1
+        turns += [[between, inner, -behind], [outer, -between, -(n + behind)]]
+    return map_by(following_in(turns), 0)
+
+
+def wrapped_grid(wide, high):
+    """A map of rows and columns of places that come round again both ways, so with one handle."""
+    turns = []
+    for x, y in itertools.product(range(wide), range(high)):
+        right, left = y * wide + x + 1, y * wide + (x - 1) % wide + 1
+        up, down = wide * high + right, wide * high + (y - 1) % high * wide + x + 1
+        turns.append([right, up, -left, -down])
+    return map_by(following_in(turns), 0)
+
+
+def renamed(m, names):
+    """The map with other names of its ends: names gives for each road the end that stands for it."""
+    def name(end):
+        return names[end] if end > 0 else -names[-end]
+    return map_by({name(end): name(behind) for end, behind in following_in(m).items()}, bare_in(m))
+
+
+def shuffled(m, seed):
+    """The map with names of its roads that chance tells."""
+    dice = random.Random(seed)
+    roads = sorted(end for end in ends_in(m) if end > 0)
+    drawn = dice.sample(range(1, 3 * len(roads) + 1), len(roads))
+    return renamed(m, {road: dice.choice((1, -1)) * new for road, new in zip(roads, drawn)})
+
+
+def apart(m, step):
+    """The map with each road's number raised by that step."""
+    return renamed(m, {road: road + step for road in ends_in(m) if road > 0})
+
+
+def together(*maps):
+    """One map of maps without a road in common."""
+    return sorted(turn for m in maps for turn in m)
+
+
+def merged(sets):
+    """Sets that have something in common made one."""
+    found = []
+    for one in sets:
+        touching = [other for other in found if other & one]
+        found = [other for other in found if not other & one] + [set(one).union(*touching)]
+    return found
+
+
+def place_with(m, end):
+    return [place for place, turn in enumerate(m) if end in turn][0]
+
+
+def piece_count(m):
+    places = {end: place for place, turn in enumerate(m) for end in turn}
+    return len(merged([{place} for place in range(len(m))] + [{places[end], places[-end]} for end in places]))
+
+
+def handle_count(m):
+    return (2 * piece_count(m) - len(m) + len(ends_in(m)) // 2 - len(other_by_steps(m))) // 2
+
+
+def round_by_list(m, end):
+    """The turns of the round, by looking for each other end in the list of what was put there."""
+    turns = [[end] + round_from(m[place_with(m, end)], end)]
+    ends = list(turns[0])
+    for told in ends:
+        if -told not in ends:
+            turns.append([-told] + round_from(m[place_with(m, -told)], -told))
+            ends += turns[-1]
+    return turns
+
+
+def code_by_list(m, end):
+    turns = round_by_list(m, end)
+    ends = ends_in(turns)
+    return tuple(tuple(ends.index(-told) for told in turn) for turn in turns)
+
+
+def least_by_list(m):
+    """The code of a map of one piece, and the least end whose round has it, None without ends."""
+    return min([(code_by_list(m, end), end) for end in ends_in(m)], default=(((),), None))
+
+
+def is_laying(m, n, laying):
+    """Whether the tuples lay m upon n, road end for road end, with all turns kept."""
+    upon = dict(laying)
+    following, there = following_in(m), following_in(n)
+    return (
+        [end for end, _ in laying] == sorted(following)
+        and sorted(upon.values()) == sorted(there)
+        and all(upon[-end] == -upon[end] and upon[following[end]] == there[upon[end]] for end in following)
+    )
+
+
+def laying_from(m, n, end, upon):
+    """The laying of a map of one piece upon another one that lays that end so, or None."""
+    following, there = following_in(m), following_in(n)
+    laid = {end: upon}
+    waiting = [end]
+    while waiting:
+        one = waiting.pop()
+        for step, spot in ((-one, -laid[one]), (following[one], there[laid[one]])):
+            if step not in laid:
+                laid[step] = spot
+                waiting.append(step)
+    laying = sorted(laid.items())
+    return laying if is_laying(m, n, laying) else None
+
+
+def layings_by_steps(m, n):
+    """All layings of a map of one piece upon another one."""
+    if not ends_in(m) or not ends_in(n):
+        return [[]] if m == n else []
+    found = [laying_from(m, n, ends_in(m)[0], upon) for upon in ends_in(n)]
+    return sorted(laying for laying in found if laying is not None)
+
+
+def alike_by_trial(m, n):
+    """Whether there is a laying, each way to lay the ends being tried, and as many bare places."""
+    ends = sorted(ends_in(m))
+    others = ends_in(n)
+    if len(ends) != len(others) or bare_in(m) != bare_in(n):
+        return False
+    return any(is_laying(m, n, list(zip(ends, upon))) for upon in itertools.permutations(others))
+
+
+def alike_by_pieces(m, n):
+    """Whether each piece can be laid upon one of the other map, without any code."""
+    left = pieces_by_names(n)
+    for piece in pieces_by_names(m):
+        fitting = [other for other in left if layings_by_steps(piece, other)]
+        if not fitting:
+            return False
+        left.remove(fitting[0])
+    return not left
+
+
+def coded_pieces(m):
+    """The pieces behind their codes and least ends, by codes, those of like codes as they are told."""
+    coded = [(least_by_list(piece), k, piece) for k, piece in enumerate(pieces_by_names(m))]
+    return sorted(coded, key=lambda told: (told[0][0], told[1]))
+
+
+def compared_by_list(m, n):
+    """What is told of two maps, by the codes that are reckoned here."""
+    ones, others = ([told[0][0] for told in coded_pieces(each)] for each in (m, n))
+    for code in sorted(set(ones + others)):
+        if ones.count(code) != others.count(code):
+            return ("unlike", code, ones.count(code), others.count(code))
+    laying = []
+    for ((_, end), _, one), ((_, upon), _, two) in zip(coded_pieces(m), coded_pieces(n)):
+        if end is not None:
+            laying += laying_from(one, two, end, upon)
+    return ("alike", sorted(laying))
+
+
+def bridges_by_pieces(m):
+    """The roads without which there is one piece more, each of them taken out."""
+    found = []
+    for road in sorted(end for end in ends_in(m) if end > 0):
+        without = [[end for end in turn if abs(end) != road] for turn in m]
+        if piece_count(without) == piece_count(m) + 1:
+            found.append(road)
+    return found
+
+
+def groups_by_roads(m, place):
+    """The roads at the place, those with another place in common made one group."""
+    sets = [{abs(end) for end in turn} for k, turn in enumerate(m) if k != place and turn]
+    at_place = {abs(end) for end in m[place]}
+    found = merged([{road} for road in at_place] + sets)
+    return sorted(sorted(one & at_place) for one in found if one & at_place)
+
+
+def walk_by_steps(m):
+    """The walk, going down a place by being asked for it."""
+    things = []
+    known = {0}
+
+    def go(place, came_by):
+        ends = m[place] if came_by is None else round_from(m[place], came_by)
+        for end in ends:
+            there = place_with(m, -end)
+            if there not in known:
+                known.add(there)
+                things.append(("down", end))
+                go(there, -end)
+                things.append(("up", -end))
+            else:
+                things.append(("side", end))
+    go(0, None)
+    return things
+
+
+def opened_and_closed(things):
+    """For each side road where along the walk it is opened and closed."""
+    at = {}
+    for spot, (word, end) in enumerate(things):
+        if word == "side":
+            at.setdefault(abs(end), []).append(spot)
+    return at
+
+
+def do_cross(at, one, two):
+    """Whether two side roads cross, whichever is opened first."""
+    (a, b), (c, d) = sorted([at[one], at[two]])
+    return a < c < b < d
+
+
+def crossing_by_spots(things):
+    """The crossing of a walk, or None."""
+    at = opened_and_closed(things)
+    for road in sorted(at, key=lambda told: at[told][1]):
+        behind = [other for other in at if at[road][0] < at[other][0] < at[road][1] < at[other][1]]
+        if behind:
+            return (road, max(behind, key=lambda told: at[told][0]))
+    return None
+
+
+def rank_of_crossings(things):
+    """The rank, by even and odd, of the table of the side roads that cross."""
+    at = opened_and_closed(things)
+    rows = [sum(1 << k for k, two in enumerate(at) if two != one and do_cross(at, one, two)) for one in at]
+    rank = 0
+    while rows:
+        row = rows.pop()
+        if row:
+            rank += 1
+            low = row & -row
+            rows = [other ^ row if other & low else other for other in rows]
+    return rank
