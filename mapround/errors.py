@@ -61,7 +61,7 @@ class Crossed(MapError):
     """Two roads of the map cross."""
 
     def __init__(self, one, two):
-        MapError.__init__(self, one, two)
+        MapError.__init__(self, "two roads of the map cross")
         self.one = one
         self.two = two
 

@@ -1,5 +1,6 @@
 """The walk round a tree of the roads of a map, and the roads that cross along it."""
 
+from mapround.errors import Crossed
 from mapround.pieces import pieces, refuse_not_one_piece
 from mapround.turns import nexts, places_at
 
@@ -51,3 +52,10 @@ def crossing(m):
         if found is not None:
             return found
     return None
+
+
+def refuse_crossed(m):
+    """Refuse a map with handles, by two of its roads that cross."""
+    found = crossing(m)
+    if found is not None:
+        raise Crossed(found[0], found[1])

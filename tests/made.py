@@ -5,8 +5,10 @@ for each end the end after it, and a number of places without roads. What is tol
 of a map is reckoned here as straight from the words of the points as can be.
 """
 
+import functools
 import itertools
 import random
+import re
 
 from mapround.changes import Cut, Draw, Found, Part, Put, Raze
 from mapround.errors import MapError
@@ -69,12 +71,13 @@ def mirror_by_steps(m):
 
 
 def pieces_by_names(m):
-    """The pieces, found by giving the places of each road one name, again and again."""
-    names = list(range(len(m)))
-    for _ in m:
-        for one, two in itertools.product(range(len(m)), repeat=2):
-            if any(-end in m[two] for end in m[one]):
-                names[one] = names[two] = min(names[one], names[two])
+    """The pieces, found by giving the places of each road one name, until no name changes."""
+    names, before = list(range(len(m))), None
+    roads = [(place_with(m, end), place_with(m, -end)) for end in ends_in(m)]
+    while names != before:
+        before = list(names)
+        for one, two in roads:
+            names[one] = names[two] = min(names[one], names[two])
     return [[m[k] for k in range(len(m)) if names[k] == name] for name in sorted(set(names))]
 
 
@@ -488,3 +491,299 @@ def rank_of_crossings(things):
             low = row & -row
             rows = [other ^ row if other & low else other for other in rows]
     return rank
+
+
+def corners(m):
+    """The lands as lists of ends: the corner that follows each of these ends lies in that land."""
+    following = following_in(m)
+    onward = {end: -following[end] for end in following}
+    return map_by(onward, 0)
+
+
+def flat_map(seed, places, roads, simple=True):
+    """A map of one piece without handles, each road of which lies within one land of those before it.
+
+    A simple one has no road from a place to itself and no two roads between the same places, so it may
+    have fewer roads than asked for.
+    """
+    dice = random.Random(seed)
+    m = [[] for _ in range(places)]
+    for road in range(1, places):
+        m = put_by_steps(m, road, dice.choice(ends_in(m)) if ends_in(m) else None, None)
+    for road in range(places, roads + 1):
+        place = {end: number for number, turn in enumerate(m) for end in turn}
+        joined = {(place[end], place[-end]) for end in place} | {(number, number) for number in range(places)}
+        spots = [pair for land in corners(m) for pair in itertools.product(land, land)]
+        if simple:
+            spots = [pair for pair in spots if (place[pair[0]], place[pair[1]]) not in joined]
+        if not spots:
+            break
+        m = put_by_steps(m, road, *dice.choice(spots))
+    return m
+
+
+def flat_maps():
+    """Maps without handles of all kinds: small ones, ones of several pieces, and ones behind changes."""
+    for m in itertools.chain(small_maps(), itertools.islice(all_maps(3), 0, None, 3)):
+        if handle_count(m) == 0:
+            yield m
+    yield from (prism(4), ring(6), way(6), star(5), star(7), loops_at_one_place(4))
+    for seed in range(300, 330):
+        one, two = flat_map(seed, 2 + seed % 7, 9, False), flat_map(seed, 3 + seed % 11, 40)
+        yield shuffled(one, seed)
+        yield shuffled(two, seed)
+        yield shuffled(together([[]] * (seed % 3), one, apart(two, 10)), seed)
+    for seed in range(330, 390):
+        _, m = chain_end(seed, 25)
+        if handle_count(m) == 0:
+            yield m
+
+
+def chain_end(seed, length):
+    """A map, and the map behind changes that can be done to it one after another."""
+    start, changes = chain(seed, length)
+    m = start
+    for change in changes:
+        m = changed_by_steps(change, m)
+    return start, m
+
+
+def drawn_by_cells(piece):
+    """The drawing of one piece, each cell being asked what stands there."""
+    things = walk_by_steps(piece)
+    if not things:
+        return ["="]
+    spots = {end: spot for spot, (_, end) in enumerate(things)}
+    came_down = {place_with(piece, -end): end for word, end in things if word == "down"}
+    at = opened_and_closed(things)
+
+    @functools.cache
+    def depth(place):
+        return 1 + depth(place_with(piece, came_down[place])) if place else 0
+
+    @functools.cache
+    def height(road):
+        within = [other for other in at if at[road][0] < at[other][0] and at[other][1] < at[road][1]]
+        return 1 + max([height(other) for other in within], default=0)
+
+    deepest = max(depth(place) for place in range(len(piece)))
+    width = 2 * len(ends_in(piece)) - 1
+    bars = {(0, 0, width - 1)}
+    bars |= {(2 * depth(place), 2 * spots[end], 2 * spots[-end]) for place, end in came_down.items()}
+    levels = {(2 * deepest + height(road), 2 * one, 2 * two) for road, (one, two) in at.items()}
+
+    def sign(row, cell):
+        if any(row == bar and left <= cell <= right for bar, left, right in bars):
+            return "="
+        for level, left, right in levels:
+            if row == level and left <= cell <= right:
+                return {left: "L", right: "J"}.get(cell, "-")
+        if cell % 2 == 0:
+            word, end = things[cell // 2]
+            below = 2 * depth(place_with(piece, end)) + 1
+            if word == "down" and row == below:
+                return "|"
+            if word == "side" and below <= row < 2 * deepest + height(abs(end)):
+                return "|"
+        return " "
+    high = 2 * deepest + 1 + max([height(road) for road in at], default=0)
+    return ["".join(sign(row, cell) for cell in range(width)) for row in range(high)]
+
+
+def drawing_by_cells(m):
+    sheets = [drawn_by_cells(piece) for piece in pieces_by_names(m)]
+    high = max([len(rows) for rows in sheets], default=0)
+    full = [rows + [" " * len(rows[0])] * (high - len(rows)) for rows in sheets]
+    return [" ".join(parts) for parts in zip(*full)]
+
+
+# Where each sign of a road goes on: as steps to another row and to another cell.
+GOES_ON = {"|": [(-1, 0), (1, 0)], "L": [(-1, 0), (0, 1)], "J": [(-1, 0), (0, -1)], "-": [(0, -1), (0, 1)]}
+
+
+def road_along(signs, bar, cell, step):
+    """The cells of a road that leaves a bar there, up or down, and the bar to which it comes at last."""
+    cells = []
+    here = (bar + step[0], cell + step[1])
+    while signs[here] != "=":
+        ways = GOES_ON[signs[here]]
+        back = (-step[0], -step[1])
+        if back not in ways or here in cells:
+            raise AssertionError(f"the road breaks off at {here}")
+        cells.append(here)
+        step = ways[1 - ways.index(back)]
+        here = (here[0] + step[0], here[1] + step[1])
+    if step[0] == 0:
+        raise AssertionError(f"the road comes to the side of a bar at {here}")
+    return cells, here
+
+
+def looked_at(rows):
+    """The bars of a drawing, each with its row, the columns below it and those above it; and the roads.
+
+    A road is told by its both ends, as tuples of column and bar's row, the one further left or up first.
+    Each road is followed cell by cell, and it is an error where two have a cell in common, or one breaks off.
+    """
+    signs = {(row, cell): sign for row, text in enumerate(rows) for cell, sign in enumerate(text)}
+    bars, roads, known = [], set(), {}
+    for row, text in enumerate(rows):
+        for bar in re.finditer("=+", text):
+            columns = {1: [], -1: []}
+            for cell, step in itertools.product(range(bar.start(), bar.end()), (1, -1)):
+                # A road below the bar goes on upward to it, and one above the bar goes on downward.
+                if (-step, 0) in GOES_ON.get(signs.get((row + step, cell)), []):
+                    columns[step].append(cell)
+                    cells, last = road_along(signs, row, cell, (step, 0))
+                    road = tuple(sorted([(cell, row), last[::-1]]))
+                    roads.add(road)
+                    if any(known.setdefault(one, road) != road for one in cells):
+                        raise AssertionError(f"two roads meet: {road}")
+            bars.append((row, columns[1], columns[-1]))
+    loose = [cell for cell, sign in signs.items() if sign not in " =" and cell not in known]
+    if loose or not set("".join(rows)) <= set(" =|-LJ"):
+        raise AssertionError(f"these cells are of no road: {loose}")
+    return bars, sorted(roads)
+
+
+def seen_by_looking(rows):
+    """The map that is seen, every road followed from bar to bar."""
+    bars, roads = looked_at(rows)
+    ends = {}
+    for number, (one, two) in enumerate(roads, 1):
+        ends[one], ends[two] = number, -number
+    turns = [[ends[cell, row] for cell in below + above] for row, below, above in bars]
+    return map_by(following_in(turns), bare_in(turns))
+
+
+def told_by_columns(m, rows):
+    """The map that is seen in its drawing, each end called by the thing of the walk that has its column."""
+    downward, left = {}, 0
+    for piece in pieces_by_names(m):
+        things = walk_by_steps(piece)
+        downward.update({left + 2 * spot: end for spot, (_, end) in enumerate(things)})
+        left += 2 * max(len(things), 1)
+    turns = [[downward[cell] for cell in below] + [-downward[cell] for cell in above]
+             for _, below, above in looked_at(rows)[0]]
+    return map_by(following_in(turns), bare_in(turns))
+
+
+def neighbours_by_roads(m):
+    return [list(dict.fromkeys(place_with(m, -end) for end in turn if -end not in turn)) for turn in m]
+
+
+def chain_by_growth(m, colours, place, a, b):
+    near = neighbours_by_roads(m)
+    known = {place}
+    while True:
+        grown = known | {there for here in known for there in near[here] if colours[there] in (a, b)}
+        if grown == known:
+            return sorted(known)
+        known = grown
+
+
+def taken_out_by_words(near):
+    left, order = set(range(len(near))), []
+    while left:
+        order.append(min(place for place in left if len(left & set(near[place])) <= 5))
+        left.remove(order[-1])
+    return order
+
+
+def coloured_by_words(m):
+    """The colours and the log, with a dict of the laid places alone."""
+    near, laid, log = neighbours_by_roads(m), {}, []
+    for place in reversed(taken_out_by_words(near)):
+        five = [there for there in near[place] if there in laid]
+        free = set(range(5)) - {laid[there] for there in five}
+        colour = min(free, key=lambda told: (sum(one == told for one in laid.values()), told), default=None)
+        if colour is None:
+            n1, n2, n3, n4, _ = five
+            now = [laid.get(number) for number in range(len(m))]
+            start, end = (n2, n4) if n3 in chain_by_growth(m, now, n1, laid[n1], laid[n3]) else (n1, n3)
+            colour, other = laid[start], laid[end]
+            log.append(("turn", start, colour, other))
+            for one in chain_by_growth(m, now, start, colour, other):
+                laid[one] = colour + other - laid[one]
+        log.append(("lay", place, colour))
+        laid[place] = colour
+    return [laid[place] for place in range(len(m))], log
+
+
+def colours_along(m, log):
+    """The colours, None for a place that is not laid, behind each step of a log that is done here again."""
+    colours = [None] * len(m)
+    for step in log:
+        if step[0] == "turn":
+            places = chain_by_growth(m, colours, *step[1:])
+            colours = [step[2] + step[3] - colour if place in places else colour
+                       for place, colour in enumerate(colours)]
+        else:
+            colours = colours[:step[1]] + [step[2]] + colours[step[1] + 1:]
+        yield colours
+
+
+def grown_lists(length, many):
+    """Each list of colours below that number in which a new colour is always the next one, in order."""
+    lists = [[]]
+    for _ in range(length):
+        lists = [ahead + [colour] for ahead in lists for colour in range(many) if colour <= len(set(ahead))]
+    return lists
+
+
+def clashes(near, colours):
+    """The pairs of places that have the same colour and not None, near being the neighbours of each place."""
+    pairs = [(one, two) for one, beside in enumerate(near) for two in beside]
+    return [(one, two) for one, two in pairs if colours[one] == colours[two] and colours[one] is not None]
+
+
+def first_by_lists(near, many):
+    """The first list of colours in which nothing clashes, or None."""
+    return next((colours for colours in grown_lists(len(near), many) if not clashes(near, colours)), None)
+
+
+def shows_that_none_does(near, many, tree, ahead=()):
+    """Whether the tree is the whole tree of the place behind those with these colours."""
+    place = len(ahead)
+    if place == len(near) or not isinstance(tree, list):
+        return False
+    before = {}
+    for there in sorted(near[place]):
+        if there < place:
+            before.setdefault(ahead[there], there)
+    allowed = [colour for colour in range(many) if colour <= len(set(ahead))]
+    return [colour for colour, _ in tree] == allowed and all(
+        what == before[colour] if colour in before else shows_that_none_does(near, many, what, (*ahead, colour))
+        for colour, what in tree
+    )
+
+
+def line_of(change):
+    """The line of a desk that tells the change."""
+    return " ".join("." if word is None else str(word) for word in change.told())
+
+
+class MapsInARow:
+    """What a desk has to show, by keeping each map: undo and redo only go along the row of them."""
+
+    def __init__(self, m):
+        self.maps, self.at = [m], 0
+
+    def lies(self):
+        return self.maps[self.at]
+
+    def line(self, line, change):
+        """Do what the line tells, the change being what it tells, if any; and tell its refusal, or None."""
+        if line == "over":
+            self.maps = [other_by_steps(m) for m in self.maps]
+        elif line in ("undo", "redo"):
+            spot = self.at + (1 if line == "redo" else -1)
+            if spot not in range(len(self.maps)):
+                return refusal("NoDeed")
+            self.at = spot
+        else:
+            told = changed_by_steps(change, self.lies())
+            if is_refusal(told):
+                return told
+            self.maps = self.maps[:self.at + 1] + [told]
+            self.at += 1
+        return None

@@ -48,6 +48,7 @@ class ErrorsTest(unittest.TestCase):
         for name in ONE_FIELD:
             with self.subTest(name=name):
                 self.assertIsInstance(str(getattr(errors, name)(10 ** 6000)), str)
+        self.assertIsInstance(str(errors.Crossed(10 ** 6000, 10 ** 6000)), str)
 
     def test_all_stand_under_map_error(self):
         self.assertEqual(errors.MapError.__bases__, (ValueError,))

@@ -1,11 +1,16 @@
-"""What is handed in stays, what is given is the asker's own, and is told alike again: point 2."""
+"""What is handed in stays, what is given is the asker's own, and is told alike again: point 2.
+
+A desk is asked the same in test_desk.py.
+"""
 
 import copy
 import inspect
 import unittest
 
 from made import is_refusal, refusal
-from mapround import changes, codes, doors, lands, likeness, pieces, texts, turns, walks
+from mapround import (
+    changes, codes, colours, doors, lands, likeness, pieces, sheets, texts, trees, turns, walks,
+)
 from mapround.changes import Change, Cut, Draw, Found, Part, Put, Raze
 from mapround.errors import MapError
 
@@ -15,6 +20,9 @@ OVER = [[], [], [-8, -1, 8], [-3, 2, 1], [-2], [3]]
 HANDLED = [[], [-6, 5, 6, -5], [-4, 3, 4, -3, 2], [-2, 1], [-1]]
 BARE = [[], []]
 FULL = [[]] * 128 + [[-1, 1]]
+RING = [[-3, 1], [-2, 3], [-1, 2]]
+FIVE = [[-9, -8, -7, -6, -5], [-1, 9], [1, 7], [5], [6], [8]]
+SHEET = ["= =======", "  | | |  ", "  | | ===", "  L-J    "]
 NONE = type(None)
 STEPS = [Put(5, None, 3), Cut(1), Draw(4), Part(6, 2, 5), Found(), Raze()]
 
@@ -54,6 +62,18 @@ ASKED = {
     doors.fallen: (["m", "place"], list, [[MAP, 0], [MAP, 2], [MAP, 3], [MAP, 4], [HANDLED, 2], [FULL, 128]]),
     walks.walk: (["m"], list, [[[]], [[[]]], [BARE], [MAP], [PIECE], [[[-2, 1, 2, -1]]]]),
     walks.crossing: (["m"], (NONE, tuple), [[[]], [BARE], [MAP], [PIECE], [HANDLED], [FULL]]),
+    sheets.drawing: (["m"], list, [[[]], [BARE], [MAP], [RING], [HANDLED], [FULL]]),
+    sheets.seen: (["rows"], list, [[[]], [["= ="]], [["===", "L-J"]], [["===", "|  ", "==="]], [SHEET]]),
+    colours.neighbours: (["m"], list, [[[]], [BARE], [MAP], [RING], [HANDLED], [FULL]]),
+    colours.chain: (["m", "colours", "place", "a", "b"], list, [
+        [RING, [0, 1, 2], 0, 0, 2], [RING, [0, None, None], 0, 1, 0], [FIVE, [None, 4, 3, 2, 1, 0], 1, 4, 3],
+        [MAP, [0, 0, 1, 0, 1, 1], 2, 1, 0]]),
+    colours.coloured: (["m"], tuple, [[[]], [BARE], [MAP], [RING], [FIVE], [HANDLED], [FULL]]),
+    colours.lands_coloured: (["m"], list, [[[]], [BARE], [MAP], [RING], [FIVE], [HANDLED], [FULL]]),
+    trees.tried: (["m", "many"], tuple, [
+        [[], 0], [[], 8], [BARE, 0], [BARE, 1], [MAP, 1], [MAP, 8], [RING, 2], [RING, 3], [HANDLED, 1], [HANDLED, 2],
+        [FIVE, 2], [FULL, 3]]),
+    trees.least: (["m"], tuple, [[[]], [BARE], [MAP], [RING], [HANDLED], [FIVE], [FULL]]),
     changes.done_all: (["m", "changes"], list, [[[], []], [MAP, []], [MAP, STEPS], [MAP, STEPS + [Cut(9)]]]),
     changes.back_all: (["m", "changes"], list, [[[], []], [MAP, []], [MAP, STEPS], [MAP, STEPS + [Cut(9)]]]),
 }

@@ -4,15 +4,21 @@ import itertools
 import unittest
 
 from made import (
-    alike_by_pieces, all_maps, answer, chain, changed_by_steps, fresh, is_laying, is_refusal, least_by_list,
-    mirror_by_steps, other_by_steps, pieces_by_names, shuffled, small_maps,
+    alike_by_pieces, all_maps, answer, chain, changed_by_steps, clashes, colours_along, crossing_by_spots, do_cross,
+    first_by_lists, flat_maps, fresh, is_laying, is_refusal, least_by_list, line_of, mirror_by_steps,
+    neighbours_by_roads, opened_and_closed, other_by_steps, pieces_by_names, refusal, shows_that_none_does, shuffled,
+    small_maps, told_by_columns, walk_by_steps,
 )
 from mapround.changes import done_all
 from mapround.codes import codes
+from mapround.colours import coloured, lands_coloured
+from mapround.desk import Desk
 from mapround.lands import counts, handles, lands, mirror
 from mapround.likeness import compared
 from mapround.pieces import joined, pieces
+from mapround.sheets import drawing, seen
 from mapround.texts import read, shown
+from mapround.trees import least
 from mapround.turns import is_map
 from mapround.walks import crossing
 
@@ -33,7 +39,46 @@ class WholeTest(unittest.TestCase):
         self.assertEqual(counts(m), (len(m), roads, len(over), len(pieces_by_names(m)), twice // 2))
         self.assertEqual(handles(m), twice // 2)
         self.assertEqual(joined(pieces(m)), m)
-        self.assertEqual(crossing(m) is None, twice == 0, m)
+        found = [crossing_by_spots(walk_by_steps(piece)) for piece in pieces_by_names(m)]
+        self.assertEqual(any(found), twice > 0, m)
+        if twice == 0:
+            self.assertIsNone(crossing(m))
+            self.drawn_and_coloured(m)
+        else:
+            self.crossed(m)
+        if len(m) <= 8:
+            self.coloured_with_the_fewest(m)
+
+    def drawn_and_coloured(self, m):
+        """A map without handles is drawn, its roads followed from cell to cell, and gets five colours or fewer."""
+        rows = drawing(m)
+        self.assertEqual(told_by_columns(m, rows), m)
+        self.assertEqual(compared(m, seen(rows))[0], "alike")
+        told, log = coloured(m)
+        near = neighbours_by_roads(m)
+        along = list(colours_along(m, log))
+        for step, colours in zip(log, along):
+            self.assertEqual(clashes(near, colours), [], (m, step))
+        self.assertEqual(along[-1] if along else [], told)
+        self.assertLessEqual(set(told), set(range(5)))
+        self.assertEqual(clashes(neighbours_by_roads(other_by_steps(m)), lands_coloured(m)), [])
+
+    def crossed(self, m):
+        """Of a map with handles two roads that cross are told, whoever asks for a drawing or colours."""
+        one, two = crossing(m)
+        at = [opened_and_closed(walk_by_steps(piece)) for piece in pieces_by_names(m)]
+        self.assertTrue(any(one in spots and two in spots and do_cross(spots, one, two) for spots in at), m)
+        for function in (drawing, coloured):
+            self.assertEqual(answer(function, m), refusal("Crossed", one=one, two=two))
+
+    def coloured_with_the_fewest(self, m):
+        """A small map gets the least number of colours, with a whole tree that shows that no fewer do."""
+        many, colours, tree = least(m)
+        near = neighbours_by_roads(m)
+        self.assertEqual((clashes(near, colours), len(set(colours))), ([], many), m)
+        self.assertEqual(colours, first_by_lists(near, many))
+        if m:
+            self.assertTrue(shows_that_none_does(near, many - 1, tree), m)
 
     def laid_or_told_apart(self, m, n):
         """Two maps are laid upon each other or told apart by a code, never both; and which of them is told."""
@@ -60,6 +105,19 @@ class WholeTest(unittest.TestCase):
         for m in all_maps(2, 1):
             rows = shown(m)
             self.holds(read(rows[::-1]))
+
+    def test_maps_without_handles(self):
+        for m in flat_maps():
+            self.holds(m)
+
+    def test_maps_made_by_lines_of_a_desk(self):
+        for seed in range(140, 145):
+            m, changes = chain(seed, 40)
+            desk = Desk(shown(m))
+            for change in changes:
+                desk.asked(line_of(change))
+                self.holds(desk.lying())
+            self.assertEqual(desk.lying(), done_all(m, changes))
 
     def test_every_map_along_chains_of_changes(self):
         for seed in range(100, 120):
